@@ -1,0 +1,1 @@
+"""Stuckwires: wires stuck at a worth, and the tests that find them."""
