@@ -1,9 +1,30 @@
-"""Pairs of right and stuck worths, by which a paper shows that no row finds some faults."""
+"""Pairs of right and stuck worths, and the papers that show by them that no row finds some faults."""
 
+from stuckwires.faults import stuck_places
 from stuckwires.works import gate_worth
 
 # Kinds whose worth at many legs is their worth at the last leg and at what the legs ahead of it come to.
 FOLDED_KINDS = ("and", "or", "odd")
+
+
+def pairs_at(works, faults, known, wire):
+    return every_pairs(works, stuck_places(works, faults), known)[wire]
+
+
+def paper_shows(works, faults, paper):
+    return is_let_by(works, stuck_places(works, faults), [None] * works[0], paper)
+
+
+# No input is split twice on the way, so it goes no deeper than there are inputs, however deep the paper is.
+def is_let_by(works, stuck, known, paper):
+    if paper[0] == "same":
+        return outputs_alike(works, stuck, known)
+    place = paper[1]
+    if not 0 <= place < works[0] or known[place] is not None:
+        return False
+    low = known[:place] + [0] + known[place + 1:]
+    high = known[:place] + [1] + known[place + 1:]
+    return is_let_by(works, stuck, low, paper[2]) and is_let_by(works, stuck, high, paper[3])
 
 
 # What is stuck is a dict from places to worths, as stuck_places of faults.py tells it.

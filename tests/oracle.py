@@ -5,6 +5,21 @@ import random
 
 ANY_LEGS = {"and": (2, 4), "or": (2, 4), "odd": (2, 4), "not": (1, 1), "choose": (3, 3), "zero": (0, 0), "one": (0, 0)}
 
+# Six inputs and twenty gates of four legs each, the most that is promised.
+GREAT_ODD = (
+    6,
+    [("odd", (0, 1, 2, 3)), ("odd", (4, 5, 6, 6))]
+    + [("odd", (wire, wire + 1, 0, 5)) for wire in range(6, 23)]
+    + [("and", (24, 23, 22, 21))],
+    [25],
+)
+GREAT_MIXED = (
+    6,
+    [("odd", (0, 1, 2, 3)), ("or", (4, 5, 6, 6))]
+    + [(("and", "or", "odd")[wire % 3], (wire, wire + 1, 0, 5)) for wire in range(6, 24)],
+    [25, 20],
+)
+
 
 def gate(kind, worths):
     return {
@@ -131,3 +146,57 @@ def some_faults(seed, works):
     for fault in chance.sample(faults(works), min(len(faults(works)), chance.randint(0, 4))):
         taken[fault[:-1]] = fault
     return list(taken.values())
+
+
+def parted(works, faults, others):
+    for row in rows(works):
+        if outputs(works, faults, row) != outputs(works, others, row):
+            return row
+    return None
+
+
+def groups(works):
+    told, never = [], []
+    for fault in faults(works):
+        if first_row(works, [fault]) is None:
+            never.append(fault)
+            continue
+        for group in told:
+            if parted(works, [fault], [group[0]]) is None:
+                group.append(fault)
+                break
+        else:
+            told.append([fault])
+    return told + [never]
+
+
+def finders(works, fault):
+    return [row for row in rows(works) if outputs(works, [fault], row) != outputs(works, [], row)]
+
+
+def all_found(works, taken):
+    found = [finders(works, fault) for fault in faults(works)]
+    return all(any(row in taken for row in by) for by in found if by)
+
+
+def fewest(works):
+    found = [by for by in (finders(works, fault) for fault in faults(works)) if by]
+    for count in range(len(rows(works)) + 1):
+        lists = [list(choice) for choice in itertools.combinations(rows(works), count)]
+        enough = [choice for choice in lists if all(any(row in choice for row in by) for by in found)]
+        if enough:
+            return min(enough)
+
+
+def need_lets_by(works, k, paper, taken=()):
+    fault = paper[1]
+    if fault not in faults(works):
+        return False
+    found = finders(works, fault)
+    if found == [] or any(row in taken for row in found):
+        return False
+    if paper[0] == "none":
+        return k == 0
+    if k < 1 or len(found) != len(paper[2]):
+        return False
+    return all(need_lets_by(works, k - 1, inner, list(taken) + [row]) for row, inner in zip(found, paper[2]))

@@ -130,10 +130,7 @@ class TestTold(unittest.TestCase):
                                      ("paper", oracle.paper(works, faults, [None] * 2)))
 
     def test_a_works_at_the_bounds(self):
-        gates = [("odd", (0, 1, 2, 3)), ("odd", (4, 5, 6, 6))]
-        gates += [("odd", (wire, wire + 1, 0, 5)) for wire in range(6, 23)]
-        gates += [("and", (24, 23, 22, 21))]
-        works = works_of(6, gates, [25])
+        works = works_of(*oracle.GREAT_ODD)
         told = [findings.test_told(works, [fault]) for fault in oracle.faults(works)]
         for fault, answer in zip(oracle.faults(works), told):
             row = oracle.first_row(works, [fault])
