@@ -45,12 +45,13 @@ def stuck_places(works, faults):
     return stuck
 
 
-# From here on rows and faults have been judged: whoever walks many rows judges the faults once.
-def worths_with(works, stuck, row):
+# From here on rows and faults have been judged. Worths, stuck ones too, may stand for many rows at once, as
+# gate_worth tells.
+def worths_with(works, stuck, row, ones=1):
     worths = [stuck.get(("wire", wire), worth) for wire, worth in enumerate(row)]
     for gate, body in enumerate(works[1]):
         read = leg_worths(stuck, gate, [worths[leg] for leg in body[1]])
-        worth = gate_worth(body[0], read)
+        worth = gate_worth(body[0], read, ones)
         worths.append(stuck.get(("wire", works[0] + gate), worth))
     return worths
 
@@ -59,6 +60,6 @@ def leg_worths(stuck, gate, worths):
     return [stuck.get(("leg", gate, leg), worth) for leg, worth in enumerate(worths)]
 
 
-def outputs_with(works, stuck, row):
-    worths = worths_with(works, stuck, row)
+def outputs_with(works, stuck, row, ones=1):
+    worths = worths_with(works, stuck, row, ones)
     return [worths[wire] for wire in works[2]]

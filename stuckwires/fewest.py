@@ -34,7 +34,7 @@ def need_shows(works, k, paper):
 
 def check_inputs(works):
     if works[0] > MOST_INPUTS:
-        raise TooMany("the fewest rows are told of at most three inputs")
+        raise TooMany("it is told of at most three inputs")
 
 
 # From here on rows go by their numbers, and what finds each fault is a dict as finding_rows of seen.py tells it.

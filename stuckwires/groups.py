@@ -1,7 +1,7 @@
 """Faults that no row tells apart, and the row that parts others."""
 
-from stuckwires.faults import every_fault, stuck_places
-from stuckwires.seen import first_unlike, outputs_seen
+from stuckwires.faults import stuck_places
+from stuckwires.seen import first_unlike, outputs_seen, seen_of_each
 
 
 def parted_at(works, faults, others):
@@ -9,18 +9,13 @@ def parted_at(works, faults, others):
 
 
 def fault_groups(works):
-    right = seen_key(works, [])
+    right = outputs_seen(works, {})
     never_found = []
     groups = {}
-    for fault in every_fault(works):
-        key = seen_key(works, [fault])
-        if key == right:
+    for fault, seen in seen_of_each(works).items():
+        if seen == right:
             never_found.append(fault)
         else:
-            groups.setdefault(key, []).append(fault)
+            # Lists can't be looked up in a dict, tuples can.
+            groups.setdefault(tuple(seen), []).append(fault)
     return list(groups.values()) + [never_found]
-
-
-# Lists can't be looked up in a dict, tuples can.
-def seen_key(works, faults):
-    return tuple([tuple(outputs) for outputs in outputs_seen(works, stuck_places(works, faults))])

@@ -27,13 +27,17 @@ def works_of(inputs, gates, outputs):
 
 
 def check_gate(kind, legs, own_wire):
-    if kind not in LEG_BOUNDS:
+    if not is_kind(kind):
         raise NoWorks("there is no such kind of gate")
     bounds = LEG_BOUNDS[kind]
     if len(legs) < bounds[0] or len(legs) > bounds[1]:
         raise NoWorks("a gate has a number of legs that its kind does not let")
     if not are_wires_below(legs, own_wire):
         raise NoWorks("a leg reads no wire ahead of its gate's own")
+
+
+def is_kind(word):
+    return word in LEG_BOUNDS
 
 
 def are_wires_below(numbers, bound):
@@ -67,15 +71,19 @@ def check_row(works, row):
         raise NoRow("a worth is 0 or 1")
 
 
-def gate_worth(kind, worths):
-    if kind == "and":
-        return min(worths)
-    if kind == "or":
-        return max(worths)
-    if kind == "odd":
-        return sum(worths) % 2
+# A worth may stand for many rows at once, by one bit for each; then ones has the bits of all these rows.
+def gate_worth(kind, worths, ones=1):
     if kind == "not":
-        return 1 - worths[0]
+        return ones ^ worths[0]
     if kind == "choose":
-        return worths[1] if worths[0] == 1 else worths[2]
-    return 1 if kind == "one" else 0
+        return (worths[0] & worths[1]) | ((ones ^ worths[0]) & worths[2])
+    # A constant has no legs, so what it begins with is its worth.
+    told = ones if kind in ("and", "one") else 0
+    for worth in worths:
+        if kind == "and":
+            told = told & worth
+        elif kind == "or":
+            told = told | worth
+        else:
+            told = told ^ worth
+    return told

@@ -35,6 +35,11 @@ NEVER = {"register", "mro", "elements", "open", "input", "version_info", "with_t
          "format_map"}
 
 
+# What a value of an object is not called: names that Python's own values have, but those that are let.
+OWN_PLACES = {name for value in ("", 0, [], {}, set(), b"", ()) for name in dir(value)}
+LET_PLACES = {"count", "index", "title", "find", "get", "join", "lower", "upper", "split", "strip", "copy", "add"}
+
+
 def breaches(text, builtin_names):
     """The breaches in one file: a list of (rule, row, what)."""
     found = sign_breaches(text) + word_breaches(text)
@@ -130,6 +135,11 @@ def name_breaches(node, bound, builtin_names):
             found.append(("L8", node.lineno, node.id))
     if isinstance(node, ast.Attribute) and node.attr in NEVER:
         found.append(("L17", node.lineno, node.attr))
+    if isinstance(node, ast.Attribute) and isinstance(node.ctx, ast.Store):
+        if node.attr in OWN_PLACES - LET_PLACES or node.attr in ("args", "sort"):
+            found.append(("L26", node.lineno, node.attr))
+        if not isinstance(node.value, ast.Name):
+            found.append(("L18", node.lineno, node.attr))
     return found
 
 
@@ -141,12 +151,17 @@ def node_breaches(node, parents):
     if isinstance(node, ast.FunctionDef):
         found += def_breaches(node)
     if isinstance(node, ast.ClassDef):
-        methods = all(isinstance(part, (ast.FunctionDef, ast.Pass)) for part in node.body)
-        if node.decorator_list or node.keywords or len(node.bases) > 1 or not methods:
+        plain = all(isinstance(part, (ast.FunctionDef, ast.Pass)) for part in node.body)
+        if node.decorator_list or node.keywords or len(node.bases) > 1 or not plain:
             found.append(("L5", row, node.name))
         if not isinstance(parents[node], ast.Module):
             found.append(("L15", row, node.name))
-    if isinstance(node, ast.Expr) and not isinstance(parents[node], ast.Module) and not isinstance(node.value, ast.Call):
+        methods = [part.name for part in node.body if isinstance(part, ast.FunctionDef)]
+        stored = [part for part in ast.walk(node) if isinstance(part, ast.Attribute)]
+        kept = {part.attr for part in stored if isinstance(part.ctx, ast.Store)}
+        found += [("L18", row, name) for name in methods if name in kept or methods.count(name) > 1]
+    inner = isinstance(node, ast.Expr) and not isinstance(parents[node], ast.Module)
+    if inner and not isinstance(node.value, ast.Call):
         found.append(("L6", row, "a statement that is no call"))
     if isinstance(node, ast.Assign) and (len(node.targets) != 1 or isinstance(node.targets[0], (ast.Tuple, ast.List))):
         found.append(("L6", row, "several targets"))

@@ -200,3 +200,63 @@ def need_lets_by(works, k, paper, taken=()):
     if k < 1 or len(found) != len(paper[2]):
         return False
     return all(need_lets_by(works, k - 1, inner, list(taken) + [row]) for row, inner in zip(found, paper[2]))
+
+
+WELL = ("well",)
+
+
+def answer(works, name, row):
+    return outputs(works, [] if name == WELL else [name], row)
+
+
+def fitting(works, answers):
+    return [
+        name for name in [WELL] + faults(works) if all(answer(works, name, row) == told for row, told in answers)
+    ]
+
+
+def greatest_left(works, answers, row):
+    told = [answer(works, name, row) for name in fitting(works, answers)]
+    return max(told.count(one) for one in told)
+
+
+def next_row(works, answers):
+    fit = fitting(works, answers)
+    if len(fit) < 2:
+        return None
+    left = [greatest_left(works, answers, row) for row in rows(works)]
+    return None if min(left) == len(fit) else rows(works)[left.index(min(left))]
+
+
+def constant(works, wire):
+    return wire >= works[0] and works[1][wire - works[0]][0] in ("zero", "one")
+
+
+def spare(works, fault):
+    wire = fault[1] if fault[0] == "wire" else works[1][fault[1]][1][fault[2]]
+    return not constant(works, wire) and first_row(works, [fault]) is None
+
+
+def bare(works):
+    read = set(works[2]).union(*[legs for _, legs in works[1]])
+    if any(works[0] + number not in read for number in range(len(works[1]))):
+        return False
+    return not any(spare(works, fault) for fault in faults(works) if fault[0] == "leg" or fault[1] >= works[0])
+
+
+def worker_gates(works):
+    return [kind for kind, _ in works[1] if kind not in ("zero", "one")]
+
+
+def rich_works(seed, inputs=6, count=20):
+    """Works whose gates read mostly what stands shortly ahead of them, so that most of them do some work."""
+    chance = random.Random(seed)
+    gates = []
+    for number in range(count):
+        kind = chance.choice(("and", "or", "odd", "not", "choose", "and", "or", "choose",
+                              chance.choice(sorted(ANY_LEGS))))
+        legs = chance.randint(*ANY_LEGS[kind])
+        wires = inputs + number
+        near = [chance.randrange(max(0, wires - 8), wires) for _ in range(legs)]
+        gates.append((kind, tuple(chance.choice((wire, wire, chance.randrange(wires))) for wire in near)))
+    return (inputs, gates, list(range(inputs + count - 4, inputs + count)))

@@ -75,7 +75,9 @@ class Reader(unittest.TestCase):
             ("L22", "def f(x):\n    return int(x, base=2)\n"),
             ("L23", "def f(x):\n    y = range(x)\n    return y\n"),
             ("L24", "def f(x):\n    y = set(x)\n    return y\n"),
+            ("L18", "class A:\n    def f(self):\n        self.f = 1\n"),
             ("L25", "def f(x):\n    x.sort()\n"),
+            ("L26", "class A:\n    def __init__(self):\n        self.items = 1\n"),
             ("L27", "def f(x):\n    return 2 ** x\n"),
         ):
             with self.subTest(text):

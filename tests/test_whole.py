@@ -4,8 +4,9 @@ from stuckwires import findings
 from stuckwires.faults import every_fault, finds
 from stuckwires.fewest import fewest_rows, finds_all, need_paper, need_shows
 from stuckwires.groups import fault_groups, parted_at
+from stuckwires.lesser import is_bare, is_spare, made_less
 from stuckwires.papers import paper_shows
-from stuckwires.works import every_row
+from stuckwires.works import every_row, outputs_at
 from tests import oracle
 
 
@@ -50,6 +51,21 @@ class Whole(unittest.TestCase):
                 self.assertIs(need_shows(works, len(rows) - 1, need_paper(works)), True)
                 for place in range(len(rows)):
                     self.assertIs(finds_all(works, rows[:place] + rows[place + 1:]), False)
+
+    def test_a_works_made_less_has_the_same_outputs_and_its_faults_can_be_found(self):
+        for seed in range(60):
+            works = oracle.rich_works(seed, 5, 14)
+            less = made_less(works)
+            with self.subTest(works):
+                self.assertEqual([outputs_at(less, row) for row in every_row(less)],
+                                 [outputs_at(works, row) for row in every_row(works)])
+                self.assertIs(is_bare(less), True)
+                for fault in every_fault(less):
+                    wire = fault[1] if fault[0] == "wire" else less[1][fault[1]][1][fault[2]]
+                    if fault[0] == "wire" and wire < less[0] or oracle.constant(less, wire):
+                        continue
+                    self.assertIs(is_spare(less, fault), False)
+                    self.assertEqual(findings.test_told(less, [fault])[0], "row")
 
 
 if __name__ == "__main__":
